@@ -183,6 +183,9 @@ func TestNew(t *testing.T) {
 			t.Error(k, e)
 		}
 	}
+	if _, e := New(Config{Who: 0, Plan: retry.Plan{Wait: 1, Most: 1, Tries: 1}, Attempts: 1}); e != api.OK {
+		t.Error(e)
+	}
 	if _, e := New(Config{Who: 1 << 20, Plan: retry.Plan{Wait: 1, Most: 1, Tries: 1}, Attempts: 1000, Budget: 1000}); e != api.OK {
 		t.Error(e)
 	}
@@ -260,6 +263,16 @@ func TestSubmit(t *testing.T) {
 	}
 	if _, e := Submit(dead, task(-1)); e != api.ErrArg {
 		t.Error(e)
+	}
+}
+
+func TestWhatIsBegunIsNew(t *testing.T) {
+	r := greeted(t, config())
+	r.c.Risk = true
+	r.c.St.Stopped = true
+	r.submit(task(7), 0)
+	if r.c.Risk || r.c.St.Stopped {
+		t.Error(r.c)
 	}
 }
 
@@ -391,14 +404,14 @@ func TestStatesAreAskedFor(t *testing.T) {
 	r.reply(msg.Reply{Code: api.ErrState})
 	r.is(Ask, 1, 2)
 	r.sent(msg.Req{Kind: msg.Status, Token: 7, Attempt: 1})
-	r.reply(msg.Reply{N: 9})
-	r.done(Report{Token: 7, Code: Unknown, Attempt: 1, Ts: 9}) // it was never tried by this client
+	r.reply(msg.Reply{N: 1})
+	r.done(Report{Token: 7, Code: Unknown, Attempt: 1, Ts: 1}) // it was never tried by this client
 	r = atEnd(t, config(), task(7))
 	r.reply(msg.Reply{Code: api.ErrState})
 	r.is(Ask, 1, 2)
 	r.sent(msg.Req{Kind: msg.Status, Token: 7, Attempt: 1})
-	r.reply(msg.Reply{N: 9})
-	r.done(Report{Token: 7, Code: Committed, Attempt: 1, Ts: 9})
+	r.reply(msg.Reply{N: 1})
+	r.done(Report{Token: 7, Code: Committed, Attempt: 1, Ts: 1})
 }
 
 func TestAsk(t *testing.T) {
@@ -473,7 +486,8 @@ func TestWhatIsNoReplyLosesTheConnection(t *testing.T) {
 		}
 		was := r.c
 		r.data(framed(msg.Reply{}))
-		if r.c.Phase != was.Phase || r.c.Resets != was.Resets {
+		r.data([]byte{1})
+		if r.c.Phase != was.Phase || r.c.Resets != was.Resets || len(r.c.In.Buf) != 0 {
 			t.Error("lost, and fed", k)
 		}
 	}
@@ -503,6 +517,11 @@ func TestTickSendsAgain(t *testing.T) {
 	r.sent(msg.Req{Kind: msg.Commit})
 	if r.c.Sent != 2 {
 		t.Error(r.c.Sent)
+	}
+	other := &rig{t: t, c: r.c}
+	other.reply(msg.Reply{N: 1})
+	if other.c.Sent != 0 || other.c.Left != 2 {
+		t.Error("another request, and sent already", other.c.Sent)
 	}
 	r.tick(5)
 	r.is(Lost, 1, 0)
@@ -596,6 +615,16 @@ func TestDying(t *testing.T) {
 	r.reply(msg.Reply{N: 4})
 	r.down()
 	r.done(Report{Token: 7, Code: Committed, Attempt: 1, Ts: 4}, Report{Token: 8, Code: Exhausted})
+
+	r = greeted(t, config(), task(7, stop()), task(8))
+	r.reply(msg.Reply{})
+	r.reply(msg.Reply{})
+	r.is(Free, 1, 2)
+	r.down() // the task that was stopped is gone, and the other one is not begun
+	r.is(Lost, 0, 0)
+	spent(r).connect()
+	r.down()
+	r.done(Report{Token: 7, Code: Aborted, Attempt: 1}, Report{Token: 8, Code: Exhausted})
 
 	r = spent(greeted(t, config()))
 	r.down()

@@ -83,7 +83,7 @@ func (c Client) ended(r msg.Reply) Client {
 }
 
 // quit: the attempt was given up, as the program wanted.
-func (c Client) quit(msg.Reply) Client { return c.through(Aborted, 0) }
+func (c Client) quit(_ msg.Reply) Client { return c.through(Aborted, 0) }
 
 // told: the server has told what became of the attempt.
 func (c Client) told(r msg.Reply) Client {
@@ -104,7 +104,7 @@ func (c Client) told(r msg.Reply) Client {
 }
 
 // freed: the server has forgotten the token.
-func (c Client) freed(msg.Reply) Client {
+func (c Client) freed(_ msg.Reply) Client {
 	c = c.pass()
 	c.Phase = Idle
 	return c.goOn()

@@ -129,7 +129,7 @@ func TestHello(t *testing.T) {
 		gone           []int
 		e              api.Errno
 	}{
-		{odd(), 2, 1, 1, "<0", nil, api.ErrArg}, {three(), 2, -1, 1, "<0", nil, api.ErrArg}, {three(), 2, api.MaxTs + 1, 1, "<0", nil, api.ErrArg}, {three(), 2, 1, -1, "<0", nil, api.ErrArg}, {three(), 99, 1, 65536, "<0", nil, api.ErrArg},
+		{odd(), 2, 1, 1, "<0", nil, api.ErrArg}, {odd(), 99, 1, 1, "<0", nil, api.ErrArg}, {odd(), 4, 1, 1, "<0", nil, api.ErrArg}, {three(), 2, -1, 1, "<0", nil, api.ErrArg}, {three(), 2, api.MaxTs + 1, 1, "<0", nil, api.ErrArg}, {three(), 2, 1, -1, "<0", nil, api.ErrArg}, {three(), 99, 1, 65536, "<0", nil, api.ErrArg},
 		{three(), 99, 5, 1, "<0", nil, api.ErrName}, {three(), 4, 5, 1, "<0", nil, api.ErrState}, {three(), 4, 9, 9, "<0", nil, api.ErrState}, {three(), 2, 5, 3, "<0", nil, api.ErrFenced}, {three(), 2, 5, 0, "<0", nil, api.ErrFenced},
 		{three(), 2, 5, 4, "2:5/4@-1 7:6/1@-1 <9", []int{4}, 0}, {three(), 2, 9, 0, "2:9/0@-1 4:5/3@8 7:6/1@-1 <9", nil, 0}, {three(), 2, api.MaxTs, 65535, "2:1099511627776/65535@-1 4:5/3@8 7:6/1@-1 <9", nil, 0},
 	} {

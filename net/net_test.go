@@ -59,7 +59,7 @@ func TestSane(t *testing.T) {
 		}
 	}
 	for k, n := range []Net{
-		odd(), {Next: -1}, {Next: api.MaxTs + 1}, change(func(n *Net) { n.Links[0].ID = -1 }), change(func(n *Net) { n.Links[0].ID = 3 }), change(func(n *Net) { n.Links[0], n.Links[1] = n.Links[1], n.Links[0] }), change(func(n *Net) { n.Links[0].Client = -1 }), change(func(n *Net) { n.Links[0].Client = 4 }), change(func(n *Net) { n.Links[0].Client = 2 }), change(func(n *Net) { n.Links[0].Conn = -1 }), change(func(n *Net) { n.Links[0].Conn = 0 }),
+		odd(), {Links: []Link{{0, 0, 0}}}, {Links: []Link{{3, 0, 0}}, Next: 3}, {Next: -1}, {Next: api.MaxTs + 1}, change(func(n *Net) { n.Links[0].ID = -1 }), change(func(n *Net) { n.Links[0].ID = 3 }), change(func(n *Net) { n.Links[0], n.Links[1] = n.Links[1], n.Links[0] }), change(func(n *Net) { n.Links[0].Client = -1 }), change(func(n *Net) { n.Links[0].Client = 4 }), change(func(n *Net) { n.Links[0].Client = 2 }), change(func(n *Net) { n.Links[0].Conn = -1 }), change(func(n *Net) { n.Links[0].Conn = 0 }),
 		change(func(n *Net) { n.Packets[0].Link = -1 }), change(func(n *Net) { n.Packets[0].Link = 4 }), change(func(n *Net) { n.Packets[0].Bytes = nil }), change(func(n *Net) { n.Packets[0].Bytes = make([]byte, 2049) }), {Next: 9, Packets: append(full().Packets, full().Packets[0])},
 	} {
 		if Sane(n) {

@@ -50,11 +50,15 @@ func TestSane(t *testing.T) {
 		change(func(p *Pipe) { p.Wait = p.Wait[1:] }), change(func(p *Pipe) { p.Wait = append(p.Wait, req(23)) }), change(func(p *Pipe) { p.Wait[0], p.Wait[1] = p.Wait[1], p.Wait[0] }), change(func(p *Pipe) { p.Wait[1] = p.Wait[0] }), change(func(p *Pipe) { p.Wait[0].Key = nil }),
 		change(func(p *Pipe) { p.Win, _ = seqs.Accept(p.Win, 28); p.Wait = append(p.Wait, req(28)) }), change(func(p *Pipe) { p.Win, _ = seqs.Accept(p.Win, 83) }), change(func(p *Pipe) { p.Win = seqs.Window{Base: 19} }), change(func(p *Pipe) { p.Win = seqs.Window{Base: 29} }),
 		change(func(p *Pipe) { p.Past = p.Past[:7] }), change(func(p *Pipe) { p.Past = append([]msg.Reply{past(11)}, p.Past...) }), change(func(p *Pipe) { p.Past[3].Code = -1 }), change(func(p *Pipe) { p.Past[3], p.Past[4] = p.Past[4], p.Past[3] }),
+		change(func(p *Pipe) { p.Wait = append(p.Wait, req(22)) }), change(func(p *Pipe) { p.Win = seqs.Window{Base: 19, Bits: 2 + 8} }), change(func(p *Pipe) { p.Win.Bits |= 1 << 62 }),
 		{Wait: []msg.Req{req(-1)}}, {Past: []msg.Reply{past(-1)}},
 	} {
 		if Sane(p) {
 			t.Error("may not be", k, p)
 		}
+	}
+	if !Sane(change(func(p *Pipe) { p.Win.Bits |= 1 << 63 })) {
+		t.Error("84 is not below 20 and 64 more")
 	}
 	if !Sane(change(func(p *Pipe) { p.Past = p.Past[5:] })) {
 		t.Error("fewer of Past")

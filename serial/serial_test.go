@@ -44,7 +44,7 @@ func TestSane(t *testing.T) {
 	for i := range 65 {
 		many = append(many, tx(i, i, i+1, "", ""))
 	}
-	for k, l := range [][]Tx{nil, many[:64], {tx(1, 0, 1, "a", "a b")}, {tx(-5, 0, 1<<62, "", "")}, {{Snap: 0, Ts: 1, Reads: []api.Range{{}}}}, {{Ts: 1, Writes: []api.Write{{Key: []byte("a"), Del: true}}}}} {
+	for k, l := range [][]Tx{nil, many[:64], {tx(1, 0, 1, "a", "a b")}, {tx(-5, 0, 1<<62, "", "")}, {{Snap: 0, Ts: 1, Reads: []api.Range{{}}}}, {{Ts: 1, Writes: []api.Write{{Key: []byte("a"), Del: true}, {Key: []byte("b"), Val: make([]byte, 32)}}}}} {
 		if !Sane(l) {
 			t.Error("may be", k)
 		}
@@ -78,6 +78,9 @@ func TestAhead(t *testing.T) {
 	}{
 		{tx(1, 0, 1, "", "a"), tx(2, 0, 2, "", "a"), true, false},
 		{tx(1, 0, 1, "", "a"), tx(2, 0, 2, "", "b"), false, false},
+		{tx(1, 0, 1, "x", "a"), tx(2, 0, 2, "y", "b"), false, false},
+		{tx(1, 0, 1, "x", "a"), tx(2, 5, 9, "y", "b"), false, false},
+		{tx(1, 0, 2, "", "a"), tx(2, 0, 2, "", "a"), false, false},
 		{tx(1, 0, 1, "", "a"), tx(2, 1, 2, "a", ""), true, false},
 		{tx(1, 0, 1, "", "a"), tx(2, 0, 2, "a", ""), false, true},
 		{tx(1, 0, 2, "", "a"), tx(2, 1, 3, "a", ""), false, true},
@@ -213,6 +216,30 @@ func TestOfAndHolds(t *testing.T) {
 	}
 	if !Holds(world.World{}, nil) {
 		t.Error("of nothing it holds")
+	}
+	for _, token := range []int{-1, 0} { // tried, but there is no such program
+		bare := world.World{Facts: []world.Fact{{Token: token, Ts: 1}}, Clients: []client.Client{{Tried: []client.Tried{{Token: token}}}}}
+		if l, ok := Of(bare, nil); ok || l != nil || Holds(bare, nil) {
+			t.Error("no program", token)
+		}
+	}
+}
+
+func TestHoldsOfWhatThereIsAtLast(t *testing.T) {
+	progs := []prog.Prog{counter("a"), copier("a", "b")}
+	w := played(t, 1, progs)
+	write := func(k, v string) api.Write { return api.Write{Key: []byte(k), Val: []byte(v)} }
+	one, two := "\x01\x00\x00\x00", "\x02\x00\x00\x00"
+	for k, x := range []struct {
+		l    []api.Write
+		want bool
+	}{
+		{[]api.Write{write("a", one), write("b", two)}, true}, {[]api.Write{write("a", one), write("b", one)}, false}, {[]api.Write{write("a", one), write("c", two)}, false}, {[]api.Write{write("a", one)}, false}, {[]api.Write{write("a", one), write("b", two), write("c", "")}, false}, {nil, false},
+	} {
+		w.Srv.Eng.Store, _ = store.Install(store.Store{}, 1, x.l)
+		if Holds(w, progs) != x.want {
+			t.Error(k)
+		}
 	}
 }
 

@@ -46,7 +46,10 @@ func setTx(s Server, id, tx int) (Server, api.Errno) {
 // settle takes a connection's transaction from it, if it is not open any more.
 func settle(s Server, id int) Server {
 	c, _ := conns.Find(s.Conns, id)
-	if _, open := txn.Find(s.Eng, c.Tx); c.Tx == noTx || open {
+	if c.Tx == noTx {
+		return s
+	}
+	if _, open := txn.Find(s.Eng, c.Tx); open {
 		return s
 	}
 	s, _ = setTx(s, id, noTx)

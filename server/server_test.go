@@ -221,7 +221,8 @@ func TestTickClosesThoseThatAreIdle(t *testing.T) {
 		r.sane()
 	}
 	tick(60, 0)
-	r.data(0, bytesOf(numbered(0, greet(1, 1), start(7, 1))...), []string{"1#0", "2#1"})
+	r.data(0, bytesOf(numbered(0, greet(1, 1))...), []string{"1#0"})
+	r.do(0, start(7, 1), "")
 	r.data(1, []byte{1}, nil) // no payload came out
 	third := r.connect(0)
 	tick(39, 0)

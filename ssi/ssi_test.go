@@ -109,7 +109,7 @@ func TestSane(t *testing.T) {
 		{change(a, func(x *Tx) { x.ID = -1 }), false}, {change(a, func(x *Tx) { x.Begin = -1 }), false}, {change(a, func(x *Tx) { x.Begin = api.MaxTs + 1 }), false}, {change(a, func(x *Tx) { x.Begin = api.MaxTs }), true},
 		{change(a, func(x *Tx) { x.State = 0 }), false}, {change(a, func(x *Tx) { x.State = 3 }), false}, {change(a, func(x *Tx) { x.End = 1 }), false}, {change(a, func(x *Tx) { x.Keys = texts("a") }), false}, {change(a, func(x *Tx) { x.In, x.Out, x.RO = true, true, true }), true},
 		{change(d, func(x *Tx) { x.End = 3 }), false}, {change(d, func(x *Tx) { x.End = api.MaxTs + 1 }), false}, {change(d, func(x *Tx) { x.End = api.MaxTs }), true}, {change(d, func(x *Tx) { x.Keys = texts("b a") }), false}, {change(d, func(x *Tx) { x.Keys = [][]byte{{}} }), false}, {change(d, func(x *Tx) { x.RO = true }), false}, {change(d, func(x *Tx) { x.RO, x.Keys = true, nil }), true},
-		{Cert{Txs: []Tx{d, {ID: 3, End: 5, State: Done}}}, false}, {Cert{Txs: []Tx{{ID: 2, End: 5, State: Done}, {ID: 3, End: 5, State: Done}}}, true},
+		{Cert{Txs: []Tx{d, {ID: 3, End: 5, State: Done}}}, false}, {Cert{Txs: []Tx{{ID: 3, End: 5, State: Done}, d}}, false}, {Cert{Txs: []Tx{d, {ID: 3, End: 5, State: Done, Keys: texts("z")}}}, false}, {Cert{Txs: []Tx{d, {ID: 3, End: 6, State: Done, Keys: texts("z")}}}, true}, {Cert{Txs: []Tx{{ID: 2, End: 5, State: Done}, {ID: 3, End: 5, State: Done}}}, true},
 	} {
 		if Sane(x.c) != x.ok {
 			t.Error(k, tell(x.c))
@@ -205,6 +205,12 @@ func TestCommitArguments(t *testing.T) {
 	if _, e := Commit(Cert{Txs: []Tx{{}}}, 1, 2, nil); e != api.ErrArg {
 		t.Error(e)
 	}
+	alone := run(t, []step{{"begin", 1, 5, "", 0}})
+	for ts, want := range map[int]api.Errno{4: api.ErrArg, 5: api.ErrArg, 6: 0} {
+		if _, e := Commit(alone, 1, ts, texts("a")); e != want {
+			t.Error(ts, e)
+		}
+	}
 }
 
 func TestConflictIsOfThoseBesideAlone(t *testing.T) {
@@ -228,6 +234,18 @@ func TestCommitThatMakesAPivotOfOneThatIsDone(t *testing.T) {
 		{"begin", 1, 0, "", 0}, {"begin", 2, 0, "", 0}, {"begin", 3, 0, "", 0}, {"read", 2, 0, "a", 0}, {"read", 3, 0, "b", 0}, {"commit", 2, 1, "b", 0},
 		{"commit", 1, 2, "a", api.ErrAborted}, {"commit", 1, 2, "x", 0},
 	})
+}
+
+func TestAPivotThatIsActiveRefusesNothing(t *testing.T) {
+	c := run(t, []step{{"begin", 1, 0, "", 0}, {"begin", 2, 0, "", 0}, {"read", 1, 0, "a", 0}})
+	c.Txs[0].In = true
+	next, e := Commit(c, 2, 1, texts("a"))
+	if e != api.OK || tell(next) != "1:0-0io 2:0-1di,a [1a]" {
+		t.Error(tell(next), e)
+	}
+	if _, e := Commit(next, 1, 2, nil); e != api.ErrAborted {
+		t.Error(e)
+	}
 }
 
 func TestCommitOfAPivot(t *testing.T) {

@@ -33,7 +33,7 @@ func TestSane(t *testing.T) {
 		{of(), true}, {full(), true}, {of(append(full().L, Entry{99, 1, Open, 0})...), false},
 		{of(Entry{0, 0, Open, 0}), true}, {of(Entry{api.MaxTs, 65535, Fenced, 0}), true}, {of(Entry{1, 1, Done, 1}), true}, {of(Entry{1, 1, Done, api.MaxTs}), true},
 		{of(Entry{-1, 0, Open, 0}), false}, {of(Entry{api.MaxTs + 1, 0, Open, 0}), false}, {of(Entry{1, -1, Open, 0}), false}, {of(Entry{1, 65536, Open, 0}), false},
-		{of(Entry{1, 1, Open, 1}), false}, {of(Entry{1, 1, Fenced, 1}), false}, {of(Entry{1, 1, Done, 0}), false}, {of(Entry{1, 1, Done, api.MaxTs + 1}), false},
+		{of(Entry{1, 1, Open, 1}), false}, {of(Entry{1, 1, Fenced, 1}), false}, {of(Entry{1, 1, Done, 0}), false}, {of(Entry{1, 1, Done, api.MaxTs + 1}), false}, {of(Entry{1, 65536, Done, 1}), false}, {of(Entry{-1, 1, Done, 1}), false},
 		{of(Entry{1, 1, 0, 0}), false}, {of(Entry{1, 1, 4, 0}), false}, {of(Entry{1, 1, Open, 0}, Entry{2, 1, Open, 0}, Entry{1, 1, Done, 1}), false},
 	} {
 		if Sane(x.t) != x.ok {

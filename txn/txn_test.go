@@ -8,6 +8,7 @@ import (
 	"godwit/api"
 	"godwit/buffer"
 	"godwit/keys"
+	"godwit/reads"
 	"godwit/ssi"
 	"godwit/store"
 	"godwit/tokens"
@@ -64,6 +65,9 @@ func (m *machine) begin(token, attempt int, ro bool, want api.Errno) int {
 	m.t.Helper()
 	e, id, err := Begin(m.e, token, attempt, ro)
 	m.took(e, err, want)
+	if err != api.OK && id != 0 {
+		m.t.Fatal("beside an error", id)
+	}
 	return id
 }
 
@@ -126,6 +130,8 @@ func TestSane(t *testing.T) {
 		func(e *Engine) { e.Open[0], e.Open[1] = e.Open[1], e.Open[0] }, func(e *Engine) { e.Open = e.Open[:1] }, func(e *Engine) { e.Cert.Txs = e.Cert.Txs[:1] }, func(e *Engine) { e.Open[0].Snap = 0 }, func(e *Engine) { e.Open[0].RO = true }, func(e *Engine) { e.Open[1].RO = false },
 		func(e *Engine) { e.Open[0].Buf.L = []api.Write{{}} }, func(e *Engine) { e.Open[1].Buf.L = []api.Write{put("a", "")} }, func(e *Engine) { e.Open[1].Token = 1 }, func(e *Engine) { e.Open[0].Snap, e.Cert.Txs[0].Begin = 2, 2 },
 		func(e *Engine) { e.Cert.Txs = append(e.Cert.Txs, ssi.Tx{ID: 77, State: ssi.Done, End: 2}) },
+		func(e *Engine) { e.Store.Chains = e.Store.Chains[:2] }, func(e *Engine) { e.Cert.Reads.L = []reads.Read{{Tx: 88, Rng: api.Range{Open: true}}} },
+		func(e *Engine) { e.Open = slices.Clone(e.Open); e.Open[0].ID = 0 },
 	} {
 		e := m.e
 		e.Open, e.Cert.Txs = slices.Clone(e.Open), slices.Clone(e.Cert.Txs)
@@ -137,6 +143,11 @@ func TestSane(t *testing.T) {
 	}
 	if !Sane(m.e) || !Sane(Engine{}) {
 		t.Error("may be")
+	}
+	done := Engine{Store: store.Store{Ts: 3}, Next: 1, Open: []Open{{}}}
+	done.Cert.Txs = []ssi.Tx{{End: 3, State: ssi.Done}}
+	if Sane(done) {
+		t.Error("one that is Done is Open")
 	}
 	many := Engine{Next: 17}
 	for i := range 17 {
@@ -504,6 +515,17 @@ func TestStatusLeavesALaterAttemptOpen(t *testing.T) {
 	m.took(e, err, 0)
 	if _, ok := Find(m.e, id); !ok {
 		t.Error("given up")
+	}
+}
+
+func TestStatusOfATokenThatIsDoneFencesNothing(t *testing.T) {
+	m := written(t)
+	id := m.begin(1, 5, false, 0)
+	m.e.Toks.L[0] = tokens.Entry{Tok: 1, Attempt: 5, State: tokens.Done, Ts: 1}
+	e, ts, err := Status(m.e, 1, 5)
+	m.took(e, err, 0)
+	if _, ok := Find(m.e, id); !ok || ts != 1 {
+		t.Error("given up", ts)
 	}
 }
 

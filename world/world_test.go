@@ -181,7 +181,7 @@ func TestConnect(t *testing.T) {
 		t.Error(q, e, e2)
 	}
 	r.step(1, 1, 0)
-	if len(r.w.Net.Links) != 1 || len(r.w.Srv.Conns.L) != 1 {
+	if len(r.w.Net.Links) != 1 || len(r.w.Srv.Conns.L) != 1 || r.w.Srv.Conns.Next != 1 {
 		t.Error("connected twice")
 	}
 }
@@ -273,6 +273,9 @@ func TestTwoClientsAddOneAtOnce(t *testing.T) {
 	}
 	if tries != 3 {
 		t.Error("one of them tries again", tries)
+	}
+	if f := r.w.Facts; f[0].Snap != 0 || f[0].Ts != 1 || f[1].Snap != 1 || f[1].Ts != 2 || f[0].Attempt+f[1].Attempt != 3 {
+		t.Error(f)
 	}
 }
 
