@@ -169,6 +169,19 @@ func atEnd(t *testing.T, g Config, tasks ...Task) *rig {
 	return r
 }
 
+func TestPhasesAndCodes(t *testing.T) {
+	for i, n := range []int{Idle, Lost, Greet, Begin, Run, End, Quit, Ask, Back, Free, Pause, Dead} {
+		if i != n {
+			t.Error(i, n)
+		}
+	}
+	for i, n := range []int{0, Committed, Aborted, Exhausted, Unknown} {
+		if i != n {
+			t.Error(i, n)
+		}
+	}
+}
+
 func TestNew(t *testing.T) {
 	c, e := New(config())
 	if e != api.OK || c.Phase != Lost || c.Epoch != 1 || c.Seq != 0 || len(c.Tasks) != 0 || !Sane(c) {

@@ -87,6 +87,12 @@ func run(t *testing.T, l []step) Cert {
 	return c
 }
 
+func TestStates(t *testing.T) {
+	if Active != 1 || Done != 2 {
+		t.Error(Active, Done)
+	}
+}
+
 func TestSane(t *testing.T) {
 	a := Tx{ID: 1, State: Active}
 	d := Tx{ID: 2, Begin: 3, End: 5, State: Done, Keys: texts("a b")}
@@ -109,7 +115,7 @@ func TestSane(t *testing.T) {
 		{change(a, func(x *Tx) { x.ID = -1 }), false}, {change(a, func(x *Tx) { x.Begin = -1 }), false}, {change(a, func(x *Tx) { x.Begin = api.MaxTs + 1 }), false}, {change(a, func(x *Tx) { x.Begin = api.MaxTs }), true},
 		{change(a, func(x *Tx) { x.State = 0 }), false}, {change(a, func(x *Tx) { x.State = 3 }), false}, {change(a, func(x *Tx) { x.End = 1 }), false}, {change(a, func(x *Tx) { x.Keys = texts("a") }), false}, {change(a, func(x *Tx) { x.In, x.Out, x.RO = true, true, true }), true},
 		{change(d, func(x *Tx) { x.End = 3 }), false}, {change(d, func(x *Tx) { x.End = api.MaxTs + 1 }), false}, {change(d, func(x *Tx) { x.End = api.MaxTs }), true}, {change(d, func(x *Tx) { x.Keys = texts("b a") }), false}, {change(d, func(x *Tx) { x.Keys = [][]byte{{}} }), false}, {change(d, func(x *Tx) { x.RO = true }), false}, {change(d, func(x *Tx) { x.RO, x.Keys = true, nil }), true},
-		{Cert{Txs: []Tx{d, {ID: 3, End: 5, State: Done}}}, false}, {Cert{Txs: []Tx{{ID: 3, End: 5, State: Done}, d}}, false}, {Cert{Txs: []Tx{d, {ID: 3, End: 5, State: Done, Keys: texts("z")}}}, false}, {Cert{Txs: []Tx{d, {ID: 3, End: 6, State: Done, Keys: texts("z")}}}, true}, {Cert{Txs: []Tx{{ID: 2, End: 5, State: Done}, {ID: 3, End: 5, State: Done}}}, true},
+		{Cert{Txs: []Tx{d, {ID: 3, End: 5, State: Done}}}, false}, {Cert{Txs: []Tx{{ID: 3, End: 5, State: Done}, d}}, false}, {Cert{Txs: []Tx{{ID: 3, End: 5, State: Done, Keys: texts("z")}, {ID: 4, End: 5, State: Done}}}, false}, {Cert{Txs: []Tx{{ID: 4, End: 5, State: Done}, {ID: 3, End: 5, State: Done, Keys: texts("z")}}}, false}, {change(d, func(x *Tx) { x.RO, x.Keys = true, texts("z") }), false}, {Cert{Txs: []Tx{d, {ID: 3, End: 5, State: Done, Keys: texts("z")}}}, false}, {Cert{Txs: []Tx{d, {ID: 3, End: 6, State: Done, Keys: texts("z")}}}, true}, {Cert{Txs: []Tx{{ID: 2, End: 5, State: Done}, {ID: 3, End: 5, State: Done}}}, true},
 	} {
 		if Sane(x.c) != x.ok {
 			t.Error(k, tell(x.c))

@@ -144,6 +144,9 @@ func TestSane(t *testing.T) {
 	if !Sane(m.e) || !Sane(Engine{}) {
 		t.Error("may be")
 	}
+	if Sane(Engine{Next: -1}) || Sane(Engine{Next: api.MaxTs + 1}) || !Sane(Engine{Next: api.MaxTs}) {
+		t.Error("next")
+	}
 	done := Engine{Store: store.Store{Ts: 3}, Next: 1, Open: []Open{{}}}
 	done.Cert.Txs = []ssi.Tx{{End: 3, State: ssi.Done}}
 	if Sane(done) {
